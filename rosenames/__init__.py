@@ -1,0 +1,1 @@
+"""Rosenames: winds named by halves of halves."""

@@ -1,0 +1,45 @@
+"""Whole numbers: which things are such, what divides two of them, and their figures."""
+
+FIGURES = "0123456789"
+
+# Python writes no int of more than some thousand figures at once, and turns
+# that are added again and again grow beyond that: so they go by pieces.
+PIECE = 10 ** 18
+
+
+def is_whole(thing):
+    """Whether a thing is a whole number: a truth is none."""
+    return isinstance(thing, int) and not isinstance(thing, bool)
+
+
+def common(one, other):
+    """The greatest number that divides two whole numbers from 0 on."""
+    while other != 0:
+        one, other = other, one % other
+    return one
+
+
+def figures_of(number):
+    """The figures of a whole number from 0 on, however many."""
+    pieces = []
+    left = number
+    while left >= PIECE:
+        left, low = divmod(left, PIECE)
+        pieces.append(f"{low:018d}")
+    pieces.append(str(left))
+    return "".join(pieces[::-1])
+
+
+def is_written(text):
+    """Whether a text is the figures of a whole number from 1 on, without noughts ahead."""
+    if text == "" or text[0] == "0":
+        return False
+    return all([sign in FIGURES for sign in text])
+
+
+def number_of(figures):
+    """The whole number that figures tell, however many."""
+    number = 0
+    for figure in figures:
+        number = 10 * number + int(figure)
+    return number
