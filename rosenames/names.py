@@ -10,14 +10,26 @@ BACK = "<"
 MOST_MARKS = 5
 
 
+def is_word(thing):
+    """Whether a thing is a word: a text of one to six small letters."""
+    if not isinstance(thing, str) or thing == "":
+        return False
+    return end_of_run(thing, 0, LETTERS, MOST_LETTERS) == len(thing)
+
+
 def parted(text):
     """(WORD, MARKS) of a name."""
+    return parted_within(text, MOST_MARKS)
+
+
+def parted_within(text, most):
+    """(WORD, MARKS) of a name of at most so many marks."""
     if not isinstance(text, str):
         raise NoName(0)
     behind_word = end_of_run(text, 0, LETTERS, MOST_LETTERS)
     if behind_word == 0:
         raise NoName(0)
-    behind_marks = end_of_run(text, behind_word, ON + BACK, MOST_MARKS)
+    behind_marks = end_of_run(text, behind_word, ON + BACK, most)
     if behind_marks < len(text):
         raise NoName(behind_marks)
     return text[:behind_word], text[behind_word:]

@@ -1,5 +1,7 @@
 """Whole numbers: which things are such, what divides two of them, and their figures."""
 
+from rosenames.errors import NoStep
+
 FIGURES = "0123456789"
 
 # Python writes no int of more than some thousand figures at once, and turns
@@ -10,6 +12,12 @@ PIECE = 10 ** 18
 def is_whole(thing):
     """Whether a thing is a whole number: a truth is none."""
     return isinstance(thing, int) and not isinstance(thing, bool)
+
+
+def must_be_step(thing):
+    """Refuse what is no whole number, so that nothing can be moved by it."""
+    if not is_whole(thing):
+        raise NoStep(thing)
 
 
 def common(one, other):
