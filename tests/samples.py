@@ -1,9 +1,10 @@
 """Roses to be asked, and what they must tell, reckoned otherwise than the package does."""
 
+import functools
 import itertools
 from fractions import Fraction
 
-from rosenames.roses import Rose
+from rosenames.roses import Rose, read_rose
 from rosenames.turns import Turn
 
 GREAT = 123456789012345678901234567890
@@ -75,12 +76,25 @@ def step_in(name):
 
 def wind_parts(rose):
     """The parts of a turn at which winds must lie, by places."""
+    return list(wind_parts_of(str(rose)))
+
+
+@functools.cache
+def wind_parts_of(text):
+    rose = read_rose(text)
     many = len(rose.words) * 2 ** rose.halvings
     return [(part_of(rose.begin) + Fraction(place, many)) % 1 for place in range(many)]
 
 
 def names_by_part(rose):
     """For each part of a turn at which a wind lies its names, the own one first."""
+    return dict(names_by_part_of(str(rose)))
+
+
+# Roses have no hash, so what is reckoned of one is kept by its text.
+@functools.cache
+def names_by_part_of(text):
+    rose = read_rose(text)
     found = {}
     for name in all_names(rose):
         found.setdefault(part_told(rose, name), []).append(name)
@@ -91,5 +105,11 @@ def names_by_part(rose):
 
 def own_names(rose):
     """The own names of all winds, by places."""
+    return list(own_names_of(str(rose)))
+
+
+@functools.cache
+def own_names_of(text):
+    rose = read_rose(text)
     names = names_by_part(rose)
     return [names[part][0] for part in wind_parts(rose)]
