@@ -4,6 +4,9 @@ from rosenames.errors import NoStep
 
 FIGURES = "0123456789"
 
+# Of a number that is read out of a row.
+MOST_FIGURES = 9
+
 # Python writes no int of more than some thousand figures at once, and turns
 # that are added again and again grow beyond that: so they go by pieces.
 PIECE = 10 ** 18
@@ -38,11 +41,14 @@ def figures_of(number):
     return "".join(pieces[::-1])
 
 
+def are_figures(text):
+    """Whether a text is figures, one or more, noughts ahead too."""
+    return text != "" and all([sign in FIGURES for sign in text])
+
+
 def is_written(text):
     """Whether a text is the figures of a whole number from 1 on, without noughts ahead."""
-    if text == "" or text[0] == "0":
-        return False
-    return all([sign in FIGURES for sign in text])
+    return are_figures(text) and text[0] != "0"
 
 
 def number_of(figures):

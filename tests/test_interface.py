@@ -19,6 +19,9 @@ FUNCTIONS = {
     "checker": {"holds": "(claim, paper)"},
     "papers": {"paper_home": "(walk)", "paper_alike": "(one, other)", "paper_least": "(walk)",
                "paper_fewest": "(must, bar)"},
+    "peoples": {"both_say": "(one, other)", "leads": "(one, other)", "unsaid": "(one, other)"},
+    "logs": {"read_log": "(rose, text)", "show_log": "(walk, wide=0, noughts=0)"},
+    "deeds": {"do": "(name, wind, by=1)", "changed": "(some, deed, by=1)"},
 }
 CLASSES = {
     ("turns", "Turn"): {
@@ -45,6 +48,7 @@ CLASSES = {
         "__repr__": "(self)", "totals": "(self)", "length": "(self)", "then": "(self, name, many=1)",
         "joined": "(self, other)", "home": "(self)", "least": "(self)",
     },
+    ("desk", "Desk"): {"__init__": "(self, rose)", "say": "(self, row)"},
 }
 
 
