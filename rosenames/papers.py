@@ -127,10 +127,11 @@ def sign_of(number):
 
 def even_out(pulls, left, first, apart):
     """Put pulls where nothing is left to go, until they come to 0 along a ring and the opposite one."""
-    for place in range(first, len(pulls), apart):
+    many = len(left)
+    for place in range(first, many, apart):
         if left[place] == 0:
             # The middle was taken off, so less than half of the ring pulls
             # either way, and there are places enough.
             pull = -sign_of(sum(pulls[first::apart]))
             pulls[place] = pull
-            pulls[place - len(pulls) // PAIR] = -pull
+            pulls[place - many // PAIR] = -pull

@@ -156,6 +156,22 @@ class HomeTest(CheckerTest):
         for first in (1, 2, 3, -1, True, False):
             self.refuses(("home", (1, 1, 1)), ((first, 3, 1),))
 
+    def test_rings_that_go_round_in_part_alone(self):
+        # Lengths at each place from FIRST on that a ring would have, without the ones ahead.
+        for many in (3, 4, 5, 6, 7, 8, 12, 20):
+            for size in (2, 3, 5, 7):
+                apart = many // size
+                if many % size == 0:
+                    for first in range(apart, many + apart):
+                        places = list(range(first, many, apart))
+                        lengths = tuple(int(place in places) for place in range(many))
+                        self.refuses(("home", lengths), ((first, size, 1),))
+                    for first in range(-many, 0):
+                        lengths = [0] * many
+                        for place in range(first, many, apart):
+                            lengths[place] += 1
+                        self.refuses(("home", tuple(lengths)), ((first, size, 1),))
+
     def test_other_numbers_of_places(self):
         for many in OTHER_MANIES:
             self.refuses(("home", (0,) * many), ())
@@ -263,6 +279,10 @@ class AwayTest(CheckerTest):
             self.refuses(("away", lengths), (5, root))
         self.refuses(("away", lengths), (2, 2))
         self.refuses(("away", lengths), (2, 3))
+        # By rests -1 is 1 of 2, and 2 of 3, which fit.
+        self.refuses(("away", lengths), (2, -1))
+        self.refuses(("away", (1, 0, 0, 0, 0, 0)), (3, -1))
+        self.refuses(("away", (1, 0, 0)), (3, -2))
         self.takes(("away", lengths), (GREAT ** 2 + 1, GREAT))
         self.refuses(("away", lengths), (GREAT ** 2, GREAT))
         self.refuses(("away", lengths), (GREAT ** 2 + 2, GREAT))

@@ -1,6 +1,7 @@
 """What of shared/LANGUAGE.md can be seen at a glance: files, sizes, signs, imports, names."""
 
 import ast
+import builtins
 import pathlib
 import re
 import unittest
@@ -49,6 +50,33 @@ class LanguageTest(unittest.TestCase):
                 self.assertNotIsInstance(node, (ast.Div, ast.Global, ast.AsyncFunctionDef), path.name)
                 if isinstance(node, ast.Constant):
                     self.assertNotIsInstance(node.value, (float, complex), path.name)
+
+    def test_no_local_name_is_that_of_an_import_a_class_or_a_builtin(self):
+        for path in FILES:
+            tree = ast.parse(path.read_text())
+            taken = set(dir(builtins))
+            for node in tree.body:
+                if isinstance(node, ast.ImportFrom):
+                    taken |= {name.asname or name.name for name in node.names}
+                elif isinstance(node, ast.ClassDef):
+                    taken.add(node.name)
+            for function in ast.walk(tree):
+                if isinstance(function, (ast.FunctionDef, ast.Lambda)):
+                    local = {argument.arg for argument in function.args.args}
+                    local |= {node.id for node in ast.walk(function)
+                              if isinstance(node, ast.Name) and isinstance(node.ctx, ast.Store)}
+                    self.assertEqual(local & taken, set(), path.name)
+                    self.assertFalse([name for name in local if name.startswith("_")], path.name)
+
+    def test_no_method_is_an_attribute_elsewhere(self):
+        methods, attributes = set(), set()
+        for path in FILES:
+            for node in ast.walk(ast.parse(path.read_text())):
+                if isinstance(node, ast.ClassDef):
+                    methods |= {part.name for part in node.body if isinstance(part, ast.FunctionDef)}
+                elif isinstance(node, ast.Attribute) and isinstance(node.ctx, ast.Store):
+                    attributes.add(node.attr)
+        self.assertEqual(methods & attributes, set())
 
 
 if __name__ == "__main__":
